@@ -1,0 +1,1 @@
+"""Countgen: values counted, told by number, tried and shrunk."""
