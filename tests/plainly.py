@@ -1,7 +1,10 @@
 """What the program tells by tables and keys, here told slowly, word by word, to hold it against that."""
 
+import contextlib
 import functools
 import itertools
+import math
+import signal
 
 from countgen.books import read_book
 from countgen.shapes import read_shape
@@ -183,6 +186,75 @@ def plain_values(book, shape, size):
     """All values of the shape and size, gone through one by one, in their order."""
     key = functools.cmp_to_key(lambda one, other: plain_compared(book, shape, one, other))
     return sorted(unsorted_values(book, shape, size), key=key)
+
+
+def rest_counted(book, parts, size):
+    if not parts:
+        return int(size == 0)
+    return sum([
+        plain_count(book, parts[0], first) * rest_counted(book, parts[1:], size - first) for first in range(size + 1)])
+
+
+def ways_of_having(size, least=0):
+    """All dicts {size of a thing: how many} whose sizes, and 1 for each thing, come to the size."""
+    if size == 0:
+        yield {}
+    elif least < size:
+        for many in range(size // (least + 1) + 1):
+            for rest in ways_of_having(size - many * (least + 1), least + 1):
+                yield {least: many, **rest}
+
+
+def chosen_counted(book, shape, size):
+    total = 0
+    for ways in ways_of_having(size):
+        product = 1
+        for each, many in ways.items():
+            among = plain_count(book, shape[1], each)
+            if shape[0] == "rising" and many > 0:
+                among = among + many - 1 if among > 0 else 0
+            product *= math.comb(among, many)
+        total += product
+    return total
+
+
+@functools.cache
+def plain_count(book, shape, size):
+    """The count as the document puts it, kind by kind; here the book is a tuple."""
+    kind = shape[0]
+    if kind == "whole":
+        first, behind = (0, 1) if size == 0 else (2 ** (size - 1), 2 ** size)
+        return max(0, min(behind, shape[2] - shape[1] + 1) - first)
+    if kind == "text":
+        return len(shape[1]) ** size
+    if kind == "row":
+        return rest_counted(book, shape[1], size)
+    if kind == "many":
+        return 1 if size == 0 else sum([
+            plain_count(book, shape[1], first) * plain_count(book, shape, size - 1 - first) for first in range(size)])
+    if kind == "pick":
+        return sum([plain_count(book, part, size) for mark, part in shape[1]])
+    if kind == "use":
+        return 0 if size == 0 else plain_count(book, named(book, shape[1]), size - 1)
+    if kind == "alike":
+        whole = size >= shape[2] and size % shape[2] == 0
+        return plain_count(book, shape[1], size // shape[2] - 1) if whole else 0
+    return chosen_counted(book, shape, size)
+
+
+@contextlib.contextmanager
+def at_once(seconds=20):
+    """Ends what takes far longer than it may; the seconds are many, since machines may be busy."""
+    def too_long(number, frame):
+        raise AssertionError(f"not answered within {seconds} seconds")
+
+    before = signal.signal(signal.SIGALRM, too_long)
+    signal.alarm(seconds)
+    try:
+        yield
+    finally:
+        signal.alarm(0)
+        signal.signal(signal.SIGALRM, before)
 
 
 def lists_within(thing):

@@ -2,6 +2,7 @@
 
 import ast
 import builtins
+import functools
 import pathlib
 import re
 import unittest
@@ -18,6 +19,11 @@ namedtuple NamedTuple TypedDict TYPE_CHECKING abstractmethod""".split())
 NAMES_OUT = set("""register mro elements open input version_info with_traceback add_note attrgetter breakpoint builtins
 compile copyright credits delattr dir eval exec exit gc getattr globals hasattr help id importlib license locals
 methodcaller os quit setattr super type vars sys chr print""".split())
+WALKED = set("zip enumerate reversed range items keys values".split())
+WALKERS = set("list tuple dict sorted sum any all enumerate zip".split())
+KEYWORDS = {
+    "sorted": {"key", "reverse"}, "min": {"key", "default"}, "max": {"key", "default"}, "sum": {"start"},
+    "enumerate": {"start"}, "zip": {"strict"}}
 NODES_IN = (
     ast.Module, ast.ImportFrom, ast.alias, ast.FunctionDef, ast.ClassDef, ast.arguments, ast.arg, ast.Lambda,
     ast.Assign, ast.AugAssign, ast.If, ast.While, ast.For, ast.Return, ast.Break, ast.Continue, ast.Pass, ast.Raise,
@@ -31,6 +37,7 @@ def files():
     return sorted(PACKAGE.glob("*.py"))
 
 
+@functools.cache
 def tree_of(path):
     return ast.parse(path.read_text(encoding="utf-8"))
 
@@ -58,15 +65,32 @@ def names_bound_within(path):
     return stored + [node.arg for node in nodes(path, ast.arg)]
 
 
-def own_attributes():
-    found = {"__init__"}
-    for path in files():
-        for node in nodes(path, ast.ClassDef):
-            found.update([inner.name for inner in node.body if isinstance(inner, ast.FunctionDef)])
-        for node in nodes(path, ast.Attribute):
-            if isinstance(node.ctx, ast.Store):
-                found.add(node.attr)
-    return found
+def own_values():
+    return {node.attr for path in files() for node in nodes(path, ast.Attribute) if isinstance(node.ctx, ast.Store)}
+
+
+def own_methods():
+    return {
+        inner.name for path in files() for node in nodes(path, ast.ClassDef)
+        for inner in node.body if isinstance(inner, ast.FunctionDef)}
+
+
+def parents_of(path):
+    return [(node, inner) for node in ast.walk(tree_of(path)) for inner in ast.iter_child_nodes(node)]
+
+
+def called(node):
+    if not isinstance(node, ast.Call):
+        return None
+    return getattr(node.func, "id", getattr(node.func, "attr", None))
+
+
+def is_walked(parent, node):
+    if isinstance(parent, (ast.For, ast.comprehension)):
+        return parent.iter is node
+    if called(parent) in WALKERS:
+        return parent.args[0] is node or called(parent) == "zip"
+    return called(parent) in ("min", "max", "join") and len(parent.args) == 1
 
 
 class LanguageTest(unittest.TestCase):
@@ -167,7 +191,7 @@ class LanguageTest(unittest.TestCase):
                     self.assertIn(node.id, known | OWN_NAMES | set(bound))
 
     def test_attributes(self):
-        allowed = METHODS | own_attributes()
+        allowed = METHODS | own_methods() | own_values()
         for path in files():
             with self.subTest(path.name):
                 for node in nodes(path, ast.Attribute):
@@ -182,6 +206,48 @@ class LanguageTest(unittest.TestCase):
                         if isinstance(operator, (ast.Is, ast.IsNot)):
                             self.assertIsInstance(right, ast.Constant)
                             self.assertIn(right.value, (None, True, False))
+
+    def test_what_is_walked_is_not_kept(self):
+        for path in files():
+            with self.subTest(path.name):
+                for parent, node in parents_of(path):
+                    if called(node) in WALKED:
+                        self.assertTrue(is_walked(parent, node), node.lineno)
+
+    def test_methods_and_sets_stand_where_they_are_called(self):
+        for path in files():
+            with self.subTest(path.name):
+                for parent, node in parents_of(path):
+                    if isinstance(node, ast.Attribute) and node.attr in METHODS - own_values():
+                        self.assertIs(getattr(parent, "func", None), node, node.lineno)
+                    if isinstance(node, ast.Name) and node.id in OWN_NAMES and not node.id.endswith("Error"):
+                        self.assertTrue(getattr(parent, "func", None) is node or self.is_asked_kind(path, node))
+                    if called(node) == "set":
+                        self.assertTrue(called(parent) in ("sorted", "len") or isinstance(parent, ast.Compare))
+
+    def is_asked_kind(self, path, name):
+        asked = [node.args[1] for node in nodes(path, ast.Call) if called(node) == "isinstance"]
+        places = [(inner.lineno, inner.col_offset) for each in asked for inner in ast.walk(each) if hasattr(inner, "id")]
+        return (name.lineno, name.col_offset) in places
+
+    def test_keywords(self):
+        for path in files():
+            with self.subTest(path.name):
+                for node in nodes(path, ast.Call):
+                    if called(node) in OWN_NAMES | METHODS:
+                        self.assertLessEqual({each.arg for each in node.keywords}, KEYWORDS.get(called(node), set()))
+
+    def test_one_plain_target(self):
+        for path in files():
+            with self.subTest(path.name):
+                for node in nodes(path, ast.Assign):
+                    self.assertIsInstance(node.targets[0], (ast.Name, ast.Attribute, ast.Subscript), node.lineno)
+
+    def test_no_name_is_a_method_and_a_value(self):
+        self.assertEqual(own_methods() & own_values(), set())
+        taken = {name for kind in (str, int, list, tuple, dict, set, bytes) for name in dir(kind)}
+        self.assertEqual(own_methods() & taken, {"__init__"})
+        self.assertLessEqual(own_values() & taken, {"count"})
 
     def test_constants(self):
         for path in files():
