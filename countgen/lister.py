@@ -1,8 +1,7 @@
 """Lister: lists the shapes that there are by a book, each with its one maker."""
 
 from countgen.books import shape_of
-from countgen.makers import (
-    AlikeMaker, ChoiceMaker, ManyMaker, PickMaker, RowMaker, TextMaker, UseMaker, WholeMaker)
+from countgen.makers import AlikeMaker, ChoiceMaker, ManyMaker, PickMaker, RowMaker, TextMaker, UseMaker, WholeMaker
 from countgen.shapes import parts_of
 
 
