@@ -6,17 +6,28 @@ from countgen.judging import fits
 from countgen.lister import maker_for
 
 
-def all_values(book, shape, size, most=400):
-    maker = maker_for(book, shape)
-    count = maker.count_at(size)
+def refuse_too_many(count, most):
     if count > most:
         raise TooMany(count, most)
-    return [maker.value_at(size, number) for number in range(count)]
+
+
+def all_made(maker, size):
+    return [maker.value_at(size, number) for number in range(maker.count_at(size))]
+
+
+def all_values(book, shape, size, most=400):
+    maker = maker_for(book, shape)
+    refuse_too_many(maker.count_at(size), most)
+    return all_made(maker, size)
 
 
 # The judge is handed a copy, since it may change what it is handed.
+def holds(judge, value):
+    return judge(copied(value)) is True
+
+
 def sieved(book, shape, size, judge, most=400):
-    return [value for value in all_values(book, shape, size, most) if judge(copied(value)) is True]
+    return [value for value in all_values(book, shape, size, most) if holds(judge, value)]
 
 
 # Both judges keep a list of their own: the asker may change the book later.

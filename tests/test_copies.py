@@ -19,6 +19,17 @@ class CopiedTest(unittest.TestCase):
         self.assertEqual(told, [[], ([], [])])
         self.assertEqual(len({id(each) for each in lists_within(told)}), 4)
 
+    def test_dicts_too(self):
+        thing = {"a": [1, {"b": []}], 2: ([],), "c": {}}
+        told = copied([thing, thing])
+        self.assertEqual(told, [thing, thing])
+        self.assertEqual(list(told[0]), ["a", 2, "c"])
+        told[0]["a"][1]["b"].append(5)
+        told[0]["c"][0] = 1
+        told[0][2][0].append(6)
+        self.assertEqual(told[1], {"a": [1, {"b": []}], 2: ([],), "c": {}})
+        self.assertEqual(thing, told[1])
+
     def test_deep_values(self):
         for book, shape, value in deep_samples():
             self.assertEqual(copied(value), value)

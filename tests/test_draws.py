@@ -1,7 +1,7 @@
 import collections
 import unittest
 
-from countgen.draws import fair
+from countgen.draws import all_fair, fair
 from countgen.errors import NoDraw
 
 
@@ -70,6 +70,21 @@ class FairTest(unittest.TestCase):
         self.assertIs(type(told), tuple)
         self.assertEqual([type(each) for each in told], [int, int])
         self.assertEqual(numbers, [9, 5])
+
+
+class AllFairTest(unittest.TestCase):
+    def test_each_that_is_below_the_edge(self):
+        self.assertEqual(all_fair([9, 8, 7, 3, 8, 0], 10, 4), [3, 3, 0])
+        self.assertEqual(all_fair([9, 8, 7, 3, 8, 0], 10, 10), [9, 8, 7, 3, 8, 0])
+        self.assertEqual(all_fair([9, 8], 10, 4), [])
+        self.assertEqual(all_fair([], 10, 4), [])
+        self.assertEqual(all_fair([0, 1], 10, 11), [])
+
+    def test_counts_below_one(self):
+        for count in (0, -1):
+            for numbers in ([], [0]):
+                with self.assertRaises(NoDraw):
+                    all_fair(numbers, 10, count)
 
 
 if __name__ == "__main__":

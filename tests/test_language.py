@@ -93,6 +93,13 @@ def is_walked(parent, node):
     return called(parent) in ("min", "max", "join") and len(parent.args) == 1
 
 
+def is_plain(node):
+    """Written out: a number, a text, a truth or None, or a tuple of such."""
+    if isinstance(node, ast.Tuple):
+        return all(is_plain(each) for each in node.elts)
+    return isinstance(node, ast.Constant)
+
+
 class LanguageTest(unittest.TestCase):
     def test_files_are_plain(self):
         for path in PACKAGE.iterdir():
@@ -140,6 +147,8 @@ class LanguageTest(unittest.TestCase):
                 self.assertIsInstance(ast.get_docstring(tree), str)
                 for node in tree.body[1:]:
                     self.assertIsInstance(node, (ast.ImportFrom, ast.FunctionDef, ast.ClassDef, ast.Assign))
+                    if isinstance(node, ast.Assign):
+                        self.assertTrue(is_plain(node.value), node.lineno)
                 names = names_at_top(tree) + names_imported(tree)
                 self.assertEqual(len(names), len(set(names)))
 
