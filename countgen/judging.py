@@ -15,6 +15,11 @@ def fits(book, shape, value):
     return weighed(book, shape, value) is not None
 
 
+def refuse_no_value(book, shape, value):
+    if not fits(book, shape, value):
+        raise NoValue(value)
+
+
 def size_of(book, shape, value):
     return key_or_refusal(book, shape, value)[0]
 

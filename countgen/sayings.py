@@ -67,7 +67,7 @@ def taken(mark, term, thing, can_take):
 
 def part_told(body, thing):
     place = body[1]
-    return taken("part", body[0], thing, lambda found: is_list_or_tuple(found) and place < len(found))[place]
+    return taken("part", body[0], thing, lambda found: is_list_or_tuple(found) and 0 <= place < len(found))[place]
 
 
 def numbers_told(mark, body, thing):

@@ -1,7 +1,7 @@
 """Telling: the value at a size and a number, the number of a value, and the least value."""
 
 from countgen.errors import NoNumber
-from countgen.judging import size_of
+from countgen.judging import refuse_no_value
 from countgen.leasts import least_below
 from countgen.lister import maker_for
 
@@ -15,8 +15,7 @@ def value_at(book, shape, size, number):
 
 
 def number_of(book, shape, value):
-    # The size is known to the maker too; it is the refusal that is asked for here.
-    size_of(book, shape, value)
+    refuse_no_value(book, shape, value)
     return maker_for(book, shape).pair_of(value)
 
 

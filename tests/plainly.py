@@ -242,6 +242,68 @@ def plain_count(book, shape, size):
     return chosen_counted(book, shape, size)
 
 
+def within(book, shape, value):
+    """Pairs (shape, thing) of all that stands in a value, by whatever shapes, each ahead of those within it."""
+    kind = shape[0]
+    if kind == "row":
+        inner = parted(shape, value)
+    elif kind == "pick":
+        inner = [(chosen(shape, value), value[1])]
+    elif kind == "use":
+        inner = [(named(book, shape[1]), value)]
+    else:
+        inner = [(shape[1], thing) for thing in value] if kind in LISTS else []
+    for part, thing in inner:
+        yield part, thing
+        yield from within(book, part, thing)
+
+
+def plain_least(book, shape, below):
+    for size in range(below):
+        for value in plain_values(book, shape, size):
+            return value
+    return None
+
+
+def replaced(things, place, thing):
+    return [*things[:place], thing, *things[place + 1:]]
+
+
+def list_steps(book, shape, value):
+    for place in range(len(value)):
+        yield value[:place] + value[place + 1:]
+    for place, thing in enumerate(value):
+        for step in plain_steps(book, shape[1], thing):
+            yield replaced(value, place, step)
+
+
+def plain_steps(book, shape, value):
+    """The steps of a value as the document puts them, kind by kind."""
+    kind = shape[0]
+    if kind == "whole":
+        distance = value - shape[1]
+        return [shape[1] + (distance >> by) for by in range(distance.bit_length(), 0, -1)]
+    if kind == "text":
+        return ["".join(signs) for signs in list(itertools.combinations(value, len(value) - 1))[::-1]] if value else []
+    if kind == "row":
+        return [
+            tuple(replaced(value, place, step)) for place, (part, thing) in enumerate(parted(shape, value))
+            for step in plain_steps(book, part, thing)]
+    if kind == "pick":
+        marks = [mark for mark, part in shape[1]]
+        leasts = [
+            (mark, plain_least(book, part, plain_size(book, shape, value)))
+            for mark, part in shape[1][:marks.index(value[0])]]
+        own = [(value[0], step) for step in plain_steps(book, chosen(shape, value), value[1])]
+        return [step for step in leasts if step[1] is not None] + own
+    if kind == "use":
+        inner = [thing for part, thing in within(book, shape, value) if part == shape]
+        return inner + plain_steps(book, named(book, shape[1]), value)
+    if kind == "alike":
+        return [[step] * shape[2] for step in plain_steps(book, shape[1], value[0])]
+    return [step for step in list_steps(book, shape, value) if kind == "many" or is_kept(book, shape, step)]
+
+
 @contextlib.contextmanager
 def at_once(seconds=20):
     """Ends what takes far longer than it may; the seconds are many, since machines may be busy."""

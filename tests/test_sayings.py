@@ -62,6 +62,9 @@ class MarksTest(SaidCase):
             self.goes_astray("part(here,20)", things[1:], "part")
         for nothing in ([], ()):
             self.goes_astray("part(here,0)", nothing, "part")
+        # No such place can be read, nor does Python's counting from the end make one.
+        with self.assertRaises(Astray):
+            said(("part", (HERE, -1)), [5, 6])
         for thing in others(LISTS, TUPLES) + ["abc", {0: 1}]:
             self.goes_astray("part(here,0)", thing, "part")
 
